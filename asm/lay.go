@@ -178,8 +178,8 @@ func (x Laid) bytes(l []Item, goals []int) []byte {
 	return b
 }
 
-// with puts an instruction's bytes behind others.
-// It is always right: a wide branch reaches farther than MaxImage, a narrow one was tried.
+// with puts the bytes of an instruction behind others.
+// Those of a program that is laid are all right: a wide branch reaches farther than MaxImage, a narrow one was tried.
 func with(b []byte, i inst.Inst) []byte {
 	more, _ := code.Bytes(i)
 	return append(b, more...)
